@@ -1,0 +1,1 @@
+"""Noaslong: boxes that say no as long as they can."""

@@ -1,0 +1,123 @@
+"""The rules of the language that a test can see at once; the others are for the reader."""
+
+import ast
+import builtins
+import pathlib
+import re
+import unittest
+
+PACKAGE = pathlib.Path(__file__).resolve().parent.parent / "noaslong"
+WORDS = ("type typing typing_extensions enum Enum IntEnum StrEnum Flag IntFlag Generic Protocol ABC ABCMeta namedtuple "
+         "NamedTuple TypedDict TYPE_CHECKING abstractmethod").split()
+PARTS = ("dataclass", "overload", "contextmanager")
+BUILTINS = ("len range enumerate zip min max sum abs sorted reversed int str bool list tuple dict set isinstance ord repr "
+            "any all divmod iter next super Exception ValueError TypeError KeyError IndexError LookupError "
+            "ZeroDivisionError ArithmeticError OverflowError RuntimeError NotImplementedError AttributeError "
+            "StopIteration NotImplemented property staticmethod classmethod").split()
+DUNDERS = ("__init__ __eq__ __repr__ __str__ __len__ __enter__ __exit__ __call__ __iter__").split()
+NEEDS_LIST = ("any", "all", "min", "max", "sum", "sorted")
+NOWHERE = "register mro elements open input version_info with_traceback add_note global format".split()
+
+
+def files():
+    return sorted(PACKAGE.glob("*.py"))
+
+
+def trees():
+    return [(path.name, ast.parse(path.read_text())) for path in files()]
+
+
+def nodes(*kinds):
+    return [(name, node) for name, tree in trees() for node in ast.walk(tree) if isinstance(node, kinds)]
+
+
+class Files(unittest.TestCase):
+    def test_nothing_but_plain_files(self):
+        for path in PACKAGE.iterdir():
+            if path.name != "__pycache__":
+                self.assertRegex(path.name, r"\A(__init__|[a-z][a-z0-9_]*)\.py\Z")
+
+    def test_signs_and_sizes(self):
+        for path in files():
+            text = path.read_text()
+            self.assertRegex(text, r"\A[ -~\n]*\Z", path.name)
+            self.assertLessEqual(len(text.splitlines()), 400, path.name)
+            self.assertLessEqual(max(len(line) for line in text.splitlines()), 120, path.name)
+
+    def test_words(self):
+        for path in files():
+            found = set(re.findall(r"\w+", path.read_text()))
+            self.assertEqual(found & {*WORDS, *NOWHERE}, set(), path.name)
+            self.assertEqual([part for part in PARTS if part in path.read_text()], [], path.name)
+
+    def test_functions_are_short(self):
+        for name, node in nodes(ast.FunctionDef):
+            self.assertLessEqual(node.end_lineno - node.lineno + 1, 40, (name, node.name))
+
+
+class Names(unittest.TestCase):
+    def test_imports_name_the_file_that_defines(self):
+        defined = {f"noaslong.{name[:-3]}": set() for name, tree in trees()}
+        for name, tree in trees():
+            for node in tree.body:
+                if isinstance(node, (ast.FunctionDef, ast.ClassDef)):
+                    defined[f"noaslong.{name[:-3]}"].add(node.name)
+                if isinstance(node, ast.Assign):
+                    defined[f"noaslong.{name[:-3]}"].update(target.id for target in node.targets)
+        for name, node in nodes(ast.Import, ast.ImportFrom):
+            self.assertIsInstance(node, ast.ImportFrom, name)
+            self.assertLessEqual({alias.name for alias in node.names}, defined[node.module], name)
+
+    def test_no_name_begins_with_an_underscore(self):
+        for name, node in nodes(ast.Name, ast.Attribute, ast.arg, ast.FunctionDef, ast.ClassDef):
+            word = {ast.Name: "id", ast.Attribute: "attr", ast.arg: "arg"}.get(type(node), "name")
+            if getattr(node, word) not in DUNDERS:
+                self.assertFalse(getattr(node, word).startswith("_"), (name, node.lineno))
+
+    def test_builtins_are_read_and_not_named_anew(self):
+        for name, node in nodes(ast.Name):
+            if hasattr(builtins, node.id):
+                self.assertIn(node.id, BUILTINS, (name, node.lineno))
+                self.assertIsInstance(node.ctx, ast.Load, (name, node.lineno))
+        for name, node in nodes(ast.arg):
+            self.assertFalse(hasattr(builtins, node.arg), (name, node.lineno))
+
+    def test_no_name_is_a_method_and_an_attribute(self):
+        methods = {part.name for name, node in nodes(ast.ClassDef) for part in node.body
+                   if isinstance(part, ast.FunctionDef)}
+        stored = {node.attr for name, node in nodes(ast.Attribute) if isinstance(node.ctx, ast.Store)}
+        self.assertEqual(methods & stored, set())
+
+
+class Expressions(unittest.TestCase):
+    def test_no_barred_statements_and_signs(self):
+        barred = (ast.Global, ast.AsyncFunctionDef)
+        self.assertEqual([(name, node.lineno) for name, node in nodes(*barred)], [])
+        for name, node in nodes(ast.BinOp, ast.AugAssign):
+            self.assertNotIsInstance(node.op, (ast.Div, ast.MatMult), (name, node.lineno))
+
+    def test_strings_and_numbers(self):
+        for name, node in nodes(ast.Constant):
+            self.assertNotIsInstance(node.value, (float, complex), (name, node.lineno))
+            if isinstance(node.value, str):
+                self.assertNotIn("%", node.value, (name, node.lineno))
+
+    def test_is_stands_beside_three_values(self):
+        for name, node in nodes(ast.Compare):
+            for sign, right in zip(node.ops, node.comparators):
+                if isinstance(sign, (ast.Is, ast.IsNot)):
+                    self.assertIsInstance(right, ast.Constant, (name, node.lineno))
+
+    def test_lists_in_the_place_of_generators(self):
+        for name, node in nodes(ast.Call):
+            if isinstance(node.func, ast.Name) and node.func.id in NEEDS_LIST:
+                found = [part for part in node.args if isinstance(part, ast.GeneratorExp)]
+                self.assertEqual(found, [], (name, node.lineno))
+
+    def test_nothing_is_sorted_in_place(self):
+        found = [(name, node.lineno) for name, node in nodes(ast.Attribute) if node.attr == "sort"]
+        self.assertEqual(found, [])
+
+
+if __name__ == "__main__":
+    unittest.main()
