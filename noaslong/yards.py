@@ -1,5 +1,8 @@
 """What all yards have."""
 
+from noaslong.errors import NoYard
+from noaslong.heaps import MOST_THINGS, rising_heap
+
 
 class Yard:
     """The yard of some sort; each sort is a class of its own, and none is made of this one itself."""
@@ -29,3 +32,19 @@ class Yard:
 
     def __repr__(self):
         return "Yard()"
+
+
+def check_things(things, is_thing):
+    """NoYard, where this is no list of at most MOST_THINGS things for each of which is_thing holds."""
+    if not isinstance(things, list):
+        raise NoYard("things", None)
+    if len(things) > MOST_THINGS:
+        raise NoYard("many", None)
+    for number, thing in enumerate(things):
+        if not is_thing(thing):
+            raise NoYard("thing", number)
+
+
+def taken(things, heap):
+    """Of all that the things are told as, what the heap's things are told as; NoHeap."""
+    return [things[number] for number in rising_heap(heap, len(things))]

@@ -184,7 +184,7 @@ class AllHeaps(unittest.TestCase):
 
     def test_somewhat_beyond_the_limits(self):
         self.assertEqual(len(all_heaps(13, limit=8192)), 8192)
-        for many in (25, 26, 100):
+        for many in (25, 26, 100, 10 ** 29):
             with self.assertRaises(errors.TooMany):
                 all_heaps(many)
 

@@ -10,8 +10,8 @@ PACKAGE = pathlib.Path(__file__).resolve().parent.parent / "noaslong"
 WORDS = ("type typing typing_extensions enum Enum IntEnum StrEnum Flag IntFlag Generic Protocol ABC ABCMeta namedtuple "
          "NamedTuple TypedDict TYPE_CHECKING abstractmethod").split()
 PARTS = ("dataclass", "overload", "contextmanager")
-BUILTINS = ("len range enumerate zip min max sum abs sorted reversed int str bool list tuple dict set isinstance ord repr "
-            "any all divmod iter next super Exception ValueError TypeError KeyError IndexError LookupError "
+BUILTINS = ("len range enumerate zip min max sum abs sorted reversed int str bool list tuple dict set isinstance ord "
+            "repr any all divmod iter next super Exception ValueError TypeError KeyError IndexError LookupError "
             "ZeroDivisionError ArithmeticError OverflowError RuntimeError NotImplementedError AttributeError "
             "StopIteration NotImplemented property staticmethod classmethod").split()
 DUNDERS = ("__init__ __eq__ __repr__ __str__ __len__ __enter__ __exit__ __call__ __iter__").split()

@@ -2,8 +2,8 @@
 
 import unittest
 
-from noaslong.heaps import rising_heap
 from noaslong import errors
+from noaslong.heaps import rising_heap
 from noaslong.yards import Yard
 
 
@@ -21,6 +21,13 @@ class Plain(Yard):
 
     def __repr__(self):
         return f"Plain({self.count})"
+
+
+class Alike:
+    """Looks like a yard, and is none."""
+
+    def __repr__(self):
+        return "Plain(3)"
 
 
 class Yards(unittest.TestCase):
@@ -48,7 +55,7 @@ class Yards(unittest.TestCase):
     def test_equal(self):
         self.assertTrue(Plain(3) == Plain(3))
         self.assertFalse(Plain(3) != Plain(3))
-        for other in (Plain(2), Yard(), None, 3, "Plain(3)", [0, 1, 2], Plain):
+        for other in (Plain(2), Yard(), None, 3, "Plain(3)", [0, 1, 2], Plain, Alike()):
             self.assertFalse(Plain(3) == other)
             self.assertTrue(Plain(3) != other)
 

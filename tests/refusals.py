@@ -1,0 +1,33 @@
+"""How a test sees what a yard is refused with."""
+
+from noaslong import errors
+
+
+class Refusals:
+    """For test cases: is a yard refused, with which fields, and is nothing that was handed in changed?"""
+
+    def refused(self, sort, arguments, what, who):
+        kept = [list(argument) for argument in arguments if isinstance(argument, list)]
+        with self.assertRaises(errors.NoYard) as caught:
+            sort(*arguments)
+        for argument, before in zip([argument for argument in arguments if isinstance(argument, list)], kept):
+            self.assertEqual([id(part) for part in argument], [id(part) for part in before])
+        self.assertEqual((caught.exception.what, caught.exception.who), (what, who))
+        self.assertNotIsInstance(caught.exception.who, bool)
+        self.assertIsInstance(caught.exception, errors.YardError)
+        self.assertIsInstance(caught.exception, ValueError)
+        self.assertNotIsInstance(caught.exception, (errors.NoHeap, LookupError, ArithmeticError, RuntimeError))
+
+    def refused_things(self, sort, ahead, right, wrong_things):
+        """What is refused of the things' list, behind the right arguments ahead; right is some right thing."""
+        for wrong in wrong_things:
+            self.refused(sort, [*ahead, [wrong]], "thing", 0)
+            self.refused(sort, [*ahead, [right, wrong]], "thing", 1)
+            self.refused(sort, [*ahead, [right, wrong, right]], "thing", 1)
+            self.refused(sort, [*ahead, [wrong, wrong]], "thing", 0)
+            self.refused(sort, [*ahead, [right] * 23 + [wrong]], "thing", 23)
+            self.refused(sort, [*ahead, [right] * 24 + [wrong]], "many", None)
+            self.refused(sort, [*ahead, [wrong] + [right] * 24], "many", None)
+        for many in (25, 26, 100):
+            self.refused(sort, [*ahead, [right] * many], "many", None)
+        self.assertEqual(sort(*ahead, [right] * 24).many(), 24)
