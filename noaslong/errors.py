@@ -1,7 +1,7 @@
 """What the program refuses with.
 
-The errors that have fields leave their message to Python, which shows the fields: what is refused may be
-anything, also what cannot be turned into a text.
+The errors that have fields make no message of their own, and leave it to Python, which shows what they were
+made of by place: what is refused may be anything, also what cannot be turned into a text.
 """
 
 
