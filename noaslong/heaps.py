@@ -1,6 +1,6 @@
 """Heaps: lists of numbers of things."""
 
-from noaslong.errors import NoHeap, TooMany
+from noaslong.errors import NoHeap, NoThing, TooMany
 from noaslong.kinds import is_whole
 
 MOST_THINGS = 24
@@ -22,6 +22,12 @@ def rising_heap(heap, many):
     if not is_heap(heap, many):
         raise NoHeap("no heap of a yard of so many things")
     return sorted(heap)
+
+
+def check_thing(thing, many):
+    """NoThing, where this, of anything, is no thing of a yard of so many things."""
+    if not is_whole(thing, 0, many - 1):
+        raise NoThing(thing)
 
 
 def joined(one, other):

@@ -31,3 +31,35 @@ class Refusals:
         for many in (25, 26, 100):
             self.refused(sort, [*ahead, [right] * many], "many", None)
         self.assertEqual(sort(*ahead, [right] * 24).many(), 24)
+
+
+UNDER = {
+    "NoYard": (errors.YardError, ValueError),
+    "NoHeap": (errors.YardError, ValueError),
+    "NoOrder": (errors.YardError, ValueError),
+    "NotLeast": (errors.YardError, ValueError),
+    "NoTold": (errors.YardError, ValueError),
+    "NoThing": (LookupError,),
+    "NotAsked": (RuntimeError,),
+    "TooMany": (ArithmeticError,),
+}
+OTHERS = (ValueError, LookupError, KeyError, IndexError, RuntimeError, NotImplementedError, RecursionError,
+          ArithmeticError, TypeError, AttributeError, errors.YardError, errors.NoText, errors.NoRow, errors.NoSuch,
+          *[getattr(errors, name) for name in UNDER])
+
+
+class Raised:
+    """For test cases: what is refused, of which classes the refusal is and is not, and its fields by their names."""
+
+    def raised(self, name, call, *arguments, **fields):
+        with self.assertRaises(getattr(errors, name)) as caught:
+            call(*arguments)
+        refusal = caught.exception
+        mine = (getattr(errors, name), *UNDER[name])
+        for kind in OTHERS:
+            self.assertEqual(isinstance(refusal, kind), kind in mine, (name, kind))
+        self.assertEqual(sorted(vars(refusal)), sorted(fields))
+        for field, value in fields.items():
+            found = getattr(refusal, field)
+            # Equal numbers need not be one object; anything else is told as it was handed in.
+            self.assertTrue(found is value or type(found) is type(value) is int and found == value, field)

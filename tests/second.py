@@ -146,6 +146,10 @@ def small_yards():
     return small_ties() + small_rows() + small_lots() + small_seats()
 
 
+def without_things():
+    return [Ties(1, []), Ties(12, []), Rows([]), Lots([], []), Lots([3], []), Seats(0, []), Seats(12, [])]
+
+
 def full_yards():
     """Yards of 24 things."""
     dice = random.Random(11)

@@ -15,6 +15,11 @@ BUILTINS = ("len range enumerate zip min max sum abs sorted reversed int str boo
             "ZeroDivisionError ArithmeticError OverflowError RuntimeError NotImplementedError AttributeError "
             "StopIteration NotImplemented property staticmethod classmethod").split()
 DUNDERS = ("__init__ __eq__ __repr__ __str__ __len__ __enter__ __exit__ __call__ __iter__").split()
+METHODS = ("append clear copy count endswith extend find get index insert isalnum isalpha isdigit islower "
+           "isspace isupper items join keys ljust lower lstrip partition pop remove replace reverse rfind rjust "
+           "rpartition rsplit rstrip setdefault split splitlines startswith strip update upper values zfill "
+           "bit_length title capitalize swapcase casefold center expandtabs removeprefix removesuffix rindex "
+           "isascii isdecimal isnumeric istitle isidentifier isprintable translate add discard").split()
 NEEDS_LIST = ("any", "all", "min", "max", "sum", "sorted")
 NOWHERE = "register mro elements open input version_info with_traceback add_note global format".split()
 
@@ -113,6 +118,26 @@ class Expressions(unittest.TestCase):
             if isinstance(node.func, ast.Name) and node.func.id in NEEDS_LIST:
                 found = [part for part in node.args if isinstance(part, ast.GeneratorExp)]
                 self.assertEqual(found, [], (name, node.lineno))
+
+    def test_methods_are_own_ones_or_listed_ones(self):
+        own = {part.name for name, node in nodes(ast.ClassDef) for part in node.body
+               if isinstance(part, ast.FunctionDef)}
+        for name, node in nodes(ast.Call):
+            if isinstance(node.func, ast.Attribute):
+                self.assertIn(node.func.attr, {*own, *METHODS}, (name, node.lineno))
+
+    def test_super_is_asked_for_a_method_at_once(self):
+        found = [name for name, node in nodes(ast.Name) if node.id == "super"]
+        called = [name for name, node in nodes(ast.Call) if isinstance(node.func, ast.Attribute)
+                  and isinstance(node.func.value, ast.Call) and isinstance(node.func.value.func, ast.Name)
+                  and node.func.value.func.id == "super" and not node.func.value.args
+                  and (not node.func.attr.startswith("__") or node.func.attr == "__init__")]
+        self.assertEqual(called, found)
+
+    def test_powers_have_literal_exponents(self):
+        for name, node in nodes(ast.BinOp, ast.AugAssign):
+            if isinstance(node.op, ast.Pow):
+                self.assertIsInstance(getattr(node, "right", None), ast.Constant, (name, node.lineno))
 
     def test_nothing_is_sorted_in_place(self):
         found = [(name, node.lineno) for name, node in nodes(ast.Attribute) if node.attr == "sort"]

@@ -6,7 +6,7 @@ import random
 import unittest
 
 from anything import Equal, Odd, no_heaps, no_lists
-from second import full_yards, heaps_of, second_worth, small_yards, some_heaps
+from second import full_yards, heaps_of, second_worth, small_yards, some_heaps, without_things
 from noaslong import errors
 from noaslong.lots import Lots
 from noaslong.rows import Rows
@@ -21,10 +21,6 @@ LISTED = ((Ties, ("places", "pairs")), (Rows, ("rows",)), (Lots, ("tops", "lots"
 def one_of_each():
     """A yard of each sort, of three things."""
     return [Ties(3, [(0, 1), (1, 0), (2, 2)]), Rows([5, 3, 6]), Lots([1, 2], [0, 0, 1]), Seats(2, [[1, 0], [], [1]])]
-
-
-def without_things():
-    return [Ties(1, []), Ties(12, []), Rows([]), Lots([], []), Lots([3], []), Seats(0, []), Seats(12, [])]
 
 
 class Sorts(unittest.TestCase):
