@@ -53,3 +53,14 @@ def no_heaps(many):
     endless = [0]
     endless.append(endless)
     return wrong + [endless]
+
+
+def no_orders(many):
+    """Values that are no orders of so many things."""
+    every = list(range(many))
+    wrong = no_heaps(many) + [tuple(every), set(every), {thing: thing for thing in every}, every + [many], every + [0]]
+    for at in every:
+        wrong.append(every[:at] + every[at + 1:])
+        wrong += [every[:at] + [odd] + every[at + 1:] for odd in (True, False, None, str(at), [at], many, -1, "")]
+        wrong += [every[:at] + [other] + every[at + 1:] for other in every if other != at]
+    return wrong

@@ -5,7 +5,7 @@ import itertools
 import random
 import unittest
 
-from anything import no_heaps, no_things
+from anything import no_heaps, no_orders, no_things
 from refusals import Raised
 from second import full_yards, heaps_of, second_worth, without_things
 from words import Pairs, one_of_each, some_orders, some_words
@@ -15,17 +15,6 @@ from noaslong.lots import Lots
 from noaslong.rows import Rows
 from noaslong.seats import Seats
 from noaslong.ties import Ties
-
-
-def no_orders(many):
-    """Values that are no orders of so many things."""
-    every = list(range(many))
-    wrong = no_heaps(many) + [tuple(every), set(every), {thing: thing for thing in every}, every + [many], every + [0]]
-    for at in every:
-        wrong.append(every[:at] + every[at + 1:])
-        wrong += [every[:at] + [odd] + every[at + 1:] for odd in (True, False, None, str(at), [at], many, -1, "")]
-        wrong += [every[:at] + [other] + every[at + 1:] for other in every if other != at]
-    return wrong
 
 
 def first_by_words(words, order):
