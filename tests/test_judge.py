@@ -42,11 +42,16 @@ def no_tolds(many):
     return wrong + [endless]
 
 
+def no_words():
+    """Values that are none of the two words."""
+    near = ["", "Fence", "fences", "fence ", " ring", "rings", "RING", "yes", "no", b"fence", b"ring", "fencering"]
+    return near + no_wholes() + [0, 1, ("fence",), ["ring"]]
+
+
 def no_papers(many):
     """Values that are no papers of a yard of so many things."""
     wrong = no_lists() + [["fence", []], ["ring", [0]], ("fence",), ("ring",), ("fence", [0], [0]), ("ring", [0], None)]
-    words = ["", "Fence", "fences", "fence ", " ring", "rings", "RING", "yes", "no", b"fence", b"ring", "fencering"]
-    wrong += [(word, [0]) for word in words + no_wholes() + [0, 1]]
+    wrong += [(word, [0]) for word in no_words()]
     wrong += [(word, heap) for word in ("fence", "ring") for heap in no_heaps(many)]
     return wrong + [([0], "fence"), ("fence", "ring"), (("fence", [0]),), [("fence", [0])], "fence", "fence 0"]
 
@@ -257,6 +262,15 @@ class NoPaper(unittest.TestCase):
         for yard in one_of_each():
             for told in ([(3, False)], [(0, False), (1, True)], [(0, False)], [(0, True)]):
                 for wrong in no_papers(4):
+                    self.assertIs(is_right(yard, told, wrong), False)
+
+    def test_the_word_is_one_of_the_two_though_the_heap_be_right(self):
+        for yard in one_of_each():
+            for told, word, heap in (([(3, False)], "ring", [3]), ([(0, False), (1, True)], "fence", [0, 1])):
+                self.assertIs(is_right(yard, told, (word, heap)), True)
+                for wrong in no_words():
+                    self.assertIs(is_right(yard, told, (wrong, heap)), False)
+                for wrong in ([word, heap], (word, tuple(heap)), (word, heap, heap), (heap, word), {word: heap}):
                     self.assertIs(is_right(yard, told, wrong), False)
 
     def test_true_is_not_1_in_a_heap(self):

@@ -7,7 +7,7 @@ import unittest
 from anything import no_heaps
 from refusals import Raised
 from second import full_yards, heaps_of, without_things
-from words import Pairs, one_of_each, some_orders, some_words
+from words import Pairs, asked, one_of_each, some_orders, some_words
 from noaslong.boxes import Box
 from noaslong.lots import Lots
 from noaslong.openness import counting, is_open, is_world, many_worlds, two_worlds
@@ -19,12 +19,6 @@ from noaslong.ties import Ties
 def worlds_of(words, box):
     """All worlds of a box, by the document's words."""
     return [heap for heap in words.heaps if {*box.yes()} <= heap and not heap & {*box.no()}]
-
-
-def asked(yard, order):
-    box = Box(yard)
-    box.play(order)
-    return box
 
 
 class ByWords(unittest.TestCase):

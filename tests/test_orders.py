@@ -8,7 +8,7 @@ import unittest
 from anything import no_heaps, no_orders, no_things
 from refusals import Raised
 from second import full_yards, heaps_of, without_things
-from words import Pairs, one_of_each, some_orders, some_words
+from words import Pairs, asked, one_of_each, some_orders, some_words
 from noaslong import errors
 from noaslong.boxes import Box
 from noaslong.least import all_least
@@ -23,12 +23,6 @@ def later_by_words(order, one, other):
     """Whether the one has the thing at the latest time at which just one of both has a thing."""
     times = [order.index(thing) for thing in {*one} ^ {*other}]
     return times != [] and order[max(times)] in one
-
-
-def asked(yard, order):
-    box = Box(yard)
-    box.play(order)
-    return box
 
 
 class Later(unittest.TestCase):

@@ -7,7 +7,7 @@ import unittest
 from anything import no_things
 from refusals import Raised
 from second import full_yards, without_things
-from words import Pairs, one_of_each, some_orders, some_words
+from words import Pairs, asked, one_of_each, some_orders, some_words
 from noaslong.boxes import Box
 from noaslong.judge import are_right, is_right
 from noaslong.lots import Lots
@@ -16,12 +16,6 @@ from noaslong.rings import is_least_fence, is_ring
 from noaslong.rows import Rows
 from noaslong.seats import Seats
 from noaslong.ties import Ties
-
-
-def asked(yard, order):
-    box = Box(yard)
-    box.play(order)
-    return box
 
 
 class ByWords(unittest.TestCase):

@@ -4,6 +4,7 @@ import functools
 import itertools
 import random
 
+from noaslong.boxes import Box
 from noaslong.heaps import rising_heap
 from noaslong.lots import Lots
 from noaslong.rows import Rows
@@ -120,6 +121,13 @@ def some_orders(many, count, seed):
         return [list(order) for order in itertools.permutations(range(many))]
     dice = random.Random(seed)
     return [list(range(many)), list(range(many))[::-1]] + [dice.sample(range(many), many) for at in range(count)]
+
+
+def asked(yard, order):
+    """A box of the yard, asked in this order."""
+    box = Box(yard)
+    box.play(order)
+    return box
 
 
 def one_of_each():
