@@ -1,17 +1,16 @@
 """Boxes, which say no as long as they can."""
 
 from noaslong.carrying import fulfils
-from noaslong.errors import NotAsked, NoYard
+from noaslong.errors import NotAsked
 from noaslong.heaps import but, check_thing, joined
-from noaslong.yards import Yard
+from noaslong.yards import check_yard
 
 
 class Asked:
     """Of this things are asked; each kind says in its own way, and none is made of this one itself."""
 
     def __init__(self, yard):
-        if not isinstance(yard, Yard):
-            raise NoYard("yard", None)
+        check_yard(yard, "yard")
         self.ground = yard
         # What was said, by the thing; the things stand in the order in which they were asked.
         self.said = {}

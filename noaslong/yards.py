@@ -3,9 +3,16 @@
 from noaslong.errors import NoYard
 from noaslong.heaps import MOST_THINGS, rising_heap
 
+MOST_DEPTH = 4
+
 
 class Yard:
     """The yard of some sort; each sort is a class of its own, and none is made of this one itself."""
+
+    def depth(self):
+        """How many yards that are made of yards stand within one another here, this one counted."""
+        # Only those tell more than this that are made of other yards.
+        return 0
 
     def many(self):
         """How many things there are."""
@@ -32,6 +39,20 @@ class Yard:
 
     def __repr__(self):
         return "Yard()"
+
+
+def check_yard(yard, what):
+    """NoYard, where this, of anything, is no yard."""
+    if not isinstance(yard, Yard):
+        raise NoYard(what, None)
+
+
+def depth_over(yards):
+    """How deep a yard is that is made of these; NoYard, where it would be too deep."""
+    depth = 1 + max([yard.depth() for yard in yards])
+    if depth > MOST_DEPTH:
+        raise NoYard("deep", None)
+    return depth
 
 
 def check_things(things, is_thing):

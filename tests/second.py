@@ -3,7 +3,10 @@
 import itertools
 import random
 
+from noaslong.beside import Beside
 from noaslong.lots import Lots
+from noaslong.mirrors import Mirror
+from noaslong.parts import Part
 from noaslong.rows import Rows
 from noaslong.seats import Seats
 from noaslong.ties import Ties
@@ -12,6 +15,11 @@ from noaslong.ties import Ties
 def heaps_of(many):
     """All heaps of so many things."""
     return [list(heap) for size in range(many + 1) for heap in itertools.combinations(range(many), size)]
+
+
+def worths(yard):
+    """What each heap of the yard is worth."""
+    return [yard.worth(heap) for heap in heaps_of(yard.many())]
 
 
 def pieces(places, pairs):
@@ -86,14 +94,33 @@ def seats_worth(rows):
     return max(len(seats) for seats in taken)
 
 
+def layered_worth(yard, heap):
+    """The worth of a heap of a mirror, a part or two yards side by side, just as the document says it."""
+    if isinstance(yard, Mirror):
+        every = range(yard.of().many())
+        out = [thing for thing in every if thing not in heap]
+        return len(heap) + second_worth(yard.of(), out) - second_worth(yard.of(), every)
+    if isinstance(yard, Part):
+        others = [thing for thing in range(yard.of().many()) if thing not in yard.away() + yard.granted()]
+        these = [others[thing] for thing in heap]
+        return second_worth(yard.of(), these + yard.granted()) - second_worth(yard.of(), yard.granted())
+    start = yard.one().many()
+    there = [thing - start for thing in heap if thing >= start]
+    return second_worth(yard.one(), [thing for thing in heap if thing < start]) + second_worth(yard.other(), there)
+
+
 def second_worth(yard, heap):
     """The worth of a heap, the second way."""
+    if isinstance(yard, (Mirror, Part, Beside)):
+        return layered_worth(yard, heap)
     if isinstance(yard, Ties):
         return ties_worth(yard.places(), [yard.pairs()[thing] for thing in heap])
     if isinstance(yard, Rows):
         return rows_worth([yard.rows()[thing] for thing in heap])
     if isinstance(yard, Lots):
         return lots_worth_by_words(yard.tops(), [yard.lots()[thing] for thing in heap])
+    if not isinstance(yard, Seats):
+        return yard.worth(list(heap))
     return seats_worth([yard.rows()[thing] for thing in heap])
 
 
@@ -160,6 +187,42 @@ def full_yards():
     yards += [Lots([24], [0] * 24), Lots([23], [0] * 24)]
     yards += [some_seats(dice, seats, most, 24) for seats, most in ((0, 0), (1, 1), (8, 2), (12, 1), (12, 2), (12, 12))]
     return yards
+
+
+def grounds():
+    """A yard of each sort, of four things, an idle one and two alike ones among them, and one without things."""
+    return [Ties(3, [(0, 1), (1, 0), (1, 2), (2, 2)]), Rows([5, 0, 5, 3]), Lots([1, 2, 0], [2, 0, 1, 0]),
+            Seats(2, [[1], [0, 1], [1], []]), Rows([])]
+
+
+def some_layers():
+    """Mirrors, parts and yards side by side over each of the grounds, up to four within one another."""
+    yards = []
+    for ground, next_one in zip(grounds(), grounds()[1:] + grounds()[:1]):
+        every = ground.things()
+        parts = [Part(ground), Part(ground, away=every), Part(ground, granted=every[::-1]),
+                 Part(ground, away=every[3:], granted=every[:1]), Part(ground, away=every[1:2]),
+                 Part(ground, away=every[::2], granted=every[1::2])]
+        mirrors = [Mirror(ground), Mirror(Mirror(ground)), Mirror(Part(ground, away=every[2:3], granted=every[:1]))]
+        small = Part(next_one, away=next_one.things()[2:])
+        besides = [Beside(ground, small), Beside(small, Mirror(ground)), Beside(ground, Rows([])),
+                   Beside(Rows([]), ground)]
+        deep = [Part(Mirror(Beside(Mirror(ground), small)), away=[0], granted=[1]),
+                Mirror(Beside(Part(Mirror(ground), granted=every[:1], away=every[3:]), Lots([1], [0, 0, 0]))),
+                Mirror(Mirror(Mirror(Mirror(ground))))]
+        yards += parts + mirrors + besides + (deep if every else deep[1:])
+    return yards
+
+
+def full_layers():
+    """Mirrors, parts and yards side by side of 24 things."""
+    dice = random.Random(12)
+    ties, rows, lots = some_ties(dice, 9, 24), some_rows(dice, 12, 24), some_lots(dice, 4, 8, 24)
+    halves = [some_ties(dice, 8, 12), some_rows(dice, 5, 12), some_lots(dice, 3, 4, 12), some_seats(dice, 6, 3, 12)]
+    yards = [Mirror(ties), Mirror(rows), Mirror(Mirror(Mirror(lots))), Part(ties), Part(Mirror(Part(Mirror(rows))))]
+    yards += [Beside(one, other) for one, other in zip(halves, halves[1:] + halves[:1])]
+    parts = [Part(ties, away=list(range(0, 24, 4)), granted=list(range(1, 24, 4))), Mirror(halves[1])]
+    return yards + [Beside(*parts), Mirror(Beside(Mirror(parts[0]), halves[3])), Beside(ties, Rows([]))]
 
 
 def some_heaps(many, count, seed):

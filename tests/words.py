@@ -4,14 +4,17 @@ import functools
 import itertools
 import random
 
+from noaslong.beside import Beside
 from noaslong.boxes import Box
 from noaslong.heaps import rising_heap
 from noaslong.lots import Lots
+from noaslong.mirrors import Mirror
+from noaslong.parts import Part
 from noaslong.rows import Rows
 from noaslong.seats import Seats
 from noaslong.ties import Ties
 from noaslong.yards import Yard
-from second import heaps_of, second_worth, small_lots, small_rows, small_seats, small_ties
+from second import heaps_of, second_worth, small_lots, small_rows, small_seats, small_ties, some_layers
 
 PAIRS_OF_PAIRS = ((0, 1, 2, 3), (0, 1, 4, 5), (0, 1, 6, 7), (2, 3, 4, 5), (2, 3, 6, 7))
 
@@ -37,9 +40,7 @@ class Words:
         self.yard = yard
         self.things = frozenset(range(yard.many()))
         self.heaps = [frozenset(heap) for heap in heaps_of(yard.many())]
-        known = isinstance(yard, (Ties, Rows, Lots, Seats))
-        self.worths = {heap: second_worth(yard, sorted(heap)) if known else yard.worth(sorted(heap))
-                       for heap in self.heaps}
+        self.worths = {heap: second_worth(yard, sorted(heap)) for heap in self.heaps}
         self.rings = []
         for heap in self.heaps:
             # Those of fewer things come first, so all that may bar this one are known.
@@ -90,6 +91,15 @@ class Words:
                 yes.add(thing)
         return said
 
+    def eager_answers(self, order):
+        """What an eager box says, asked in this order."""
+        yes, said = set(), []
+        for thing in order:
+            said.append((thing, not self.carries(yes, thing)))
+            if said[-1][1]:
+                yes.add(thing)
+        return said
+
     def is_right(self, told, paper):
         """Whether the paper is right for the last answer of the told."""
         word, heap = paper
@@ -105,13 +115,14 @@ class Words:
 
 @functools.cache
 def some_words():
-    """Words of small yards of all sorts: with and without things, with idle ones and alike ones."""
+    """Words of small yards of all sorts, layered ones too: with and without things, with idle ones and alike ones."""
     yards = []
     for small in (small_ties(), small_rows(), small_lots(), small_seats()):
         # The last sixty of each are of three to six things.
         yards += small[:-60:11] + small[-60::4]
     yards += [Ties(1, []), Rows([]), Lots([], []), Seats(0, []), Ties(1, [(0, 0)] * 3), Rows([0, 0]),
               Lots([0], [0, 0]), Seats(2, [[], []]), Rows([5, 5, 5]), Lots([2], [0, 0, 0, 0]), Pairs()]
+    yards += some_layers() + [Mirror(Pairs()), Part(Pairs(), away=[7], granted=[0]), Beside(Rows([5, 0]), Ties(1, []))]
     return [Words(yard) for yard in yards]
 
 
