@@ -44,6 +44,17 @@ def no_things(many):
     return no_wholes() + [-1, -many, many, many + 1, 24, 25, 100, 10 ** 29, -(10 ** 29)]
 
 
+def no_texts():
+    """Values that are no texts."""
+    return [value for value in no_wholes() if type(value) is not str] + [0, 1, -1, bytearray(b"a"), ["ok"], ("ok",)]
+
+
+def no_names():
+    """Values that are no NAMEs."""
+    return no_texts() + ["", "abcdefghi", "Ann", "aNn", "ANN", "an n", " ann", "ann ", "ann\n", "a1", "1", "a-b", "a_b",
+                         "ann.", "a" * 100, ["ann"], ("ann",), {"ann": 1}, b"ann"]
+
+
 def no_heaps(many):
     """Values that are no heaps of a yard of so many things, up to 24."""
     wrong = no_lists() + [[thing] for thing in no_things(many)] + [[[]], [[0]], [[0], [1]]]

@@ -39,13 +39,15 @@ UNDER = {
     "NoOrder": (errors.YardError, ValueError),
     "NotLeast": (errors.YardError, ValueError),
     "NoTold": (errors.YardError, ValueError),
+    "NoText": (errors.YardError, ValueError),
+    "NoRow": (errors.YardError, ValueError),
     "NoThing": (LookupError,),
+    "NoSuch": (KeyError, LookupError),
     "NotAsked": (RuntimeError,),
     "TooMany": (ArithmeticError,),
 }
 OTHERS = (ValueError, LookupError, KeyError, IndexError, RuntimeError, NotImplementedError, RecursionError,
-          ArithmeticError, TypeError, AttributeError, errors.YardError, errors.NoText, errors.NoRow, errors.NoSuch,
-          *[getattr(errors, name) for name in UNDER])
+          ArithmeticError, TypeError, AttributeError, errors.YardError, *[getattr(errors, name) for name in UNDER])
 
 
 class Raised:
@@ -61,5 +63,6 @@ class Raised:
         self.assertEqual(sorted(vars(refusal)), sorted(fields))
         for field, value in fields.items():
             found = getattr(refusal, field)
-            # Equal numbers need not be one object; anything else is told as it was handed in.
-            self.assertTrue(found is value or type(found) is type(value) is int and found == value, field)
+            # Equal numbers and texts need not be one object; anything else is told as it was handed in.
+            alike = type(found) is type(value) and type(value) in (int, str) and found == value
+            self.assertTrue(found is value or alike, field)
