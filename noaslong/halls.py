@@ -40,7 +40,7 @@ class Hall:
 
     def is_open_to(self, name):
         """Whether what the asker heard a yes to does not fulfil; NoSuch."""
-        return not fulfils(self.yard(), sorted([thing for thing, truth in self.heard(name) if truth]))
+        return not fulfils(self.yard(), [thing for thing, truth in self.heard(name) if truth])
 
     def back(self):
         """Who asked last and what, as if it had not been from now on; NotAsked."""

@@ -7,8 +7,7 @@ import random
 from anything import Equal, Odd, no_lists, no_things, no_wholes
 from refusals import Raised
 from second import full_layers, full_yards, second_worth, some_layers, without_things
-from words import Pairs, Words, one_of_each, some_orders, some_words
-from noaslong.beside import Beside
+from words import Pairs, Words, asked, one_of_each, some_orders, some_words, yards_of_four
 from noaslong.boxes import Asked
 from noaslong.mirrors import Mirror
 from noaslong.parts import Part
@@ -34,13 +33,6 @@ def standing(box):
     return (box.yes(), box.no(), box.unasked(), box.asked(), box.answers(), told, len(box))
 
 
-def yards_of_four():
-    """Yards of four things, of each sort, mirrors, a part and two side by side."""
-    rows = Rows([5, 7, 5, 3, 0, 6])
-    return one_of_each() + [Mirror(one_of_each()[0]), Mirror(Mirror(one_of_each()[3])),
-                            Part(rows, away=[1], granted=[3]), Beside(Rows([5, 5]), Ties(2, [(0, 1), (1, 1)]))]
-
-
 class Asking(Raised):
     """A test case has the kind of box, and what it says by the document's words, asked in an order."""
 
@@ -49,14 +41,9 @@ class Asking(Raised):
     def said(self, words, order):
         raise NotImplementedError
 
-    def asked(self, yard, things):
-        box = self.kind(yard)
-        box.play(things)
-        return box
-
     def boxes(self):
         """Boxes of several yards, of which some things were asked."""
-        return [self.asked(yard, [2, 0]) for yard in yards_of_four()]
+        return [asked(yard, [2, 0], self.kind) for yard in yards_of_four()]
 
     def expected(self, words, order):
         """How a box stands by the document's words, asked in this order."""
@@ -263,7 +250,7 @@ class Copies(Asking):
         for words in some_words()[::3]:
             for order in some_orders(len(words.things), 3, 57):
                 for end in range(len(order) + 1):
-                    box = self.asked(words.yard, order[:end])
+                    box = asked(words.yard, order[:end], self.kind)
                     copied = box.copied()
                     self.assertEqual(copied.play(order[end:]), box.play(order[end:]))
                     self.assertEqual(standing(copied), standing(box))

@@ -5,7 +5,7 @@ import unittest
 
 import asking
 from second import full_layers, second_worth
-from words import one_of_each, some_orders, some_words
+from words import asked, one_of_each, some_orders, some_words, yards_of_four
 from noaslong.beside import Beside
 from noaslong.boxes import Box
 from noaslong.eager import Eager
@@ -55,8 +55,7 @@ class Whole(unittest.TestCase):
     def test_all_asked_it_is_the_least_heap_first_in_the_order(self):
         for words in some_words():
             for order in some_orders(len(words.things), 6, 91):
-                box = Eager(words.yard)
-                box.play(order)
+                box = asked(words.yard, order, Eager)
                 self.assertTrue(words.is_least(box.yes()))
                 self.assertEqual(box.yes(), first_least(words.yard, order))
                 times = {thing: at for at, thing in enumerate(order)}
@@ -109,11 +108,9 @@ class Copies(OfAnEager, asking.Copies, unittest.TestCase):
 
 class Equals(OfAnEager, asking.Equals, unittest.TestCase):
     def test_a_box_and_an_eager_one_are_not_equal(self):
-        for yard in asking.yards_of_four() + [Rows([])]:
+        for yard in yards_of_four() + [Rows([])]:
             for things in ([], yard.things()[::2], yard.things()):
-                eager, box = Eager(yard), Box(yard)
-                eager.play(things)
-                box.play(things)
+                eager, box = asked(yard, things, Eager), asked(yard, things)
                 for one, other in ((eager, box), (box, eager)):
                     self.assertIs(one == other, False)
                     self.assertIs(one != other, True)

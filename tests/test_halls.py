@@ -7,24 +7,15 @@ import unittest
 from anything import Equal, Odd, no_lists, no_names, no_things, no_wholes
 from refusals import Raised
 from second import full_layers, full_yards, without_things
-from words import Words, one_of_each, some_orders, some_words
-from noaslong.beside import Beside
+from words import Words, some_orders, some_words, yards_of_four
 from noaslong.boxes import Box
 from noaslong.halls import Hall
-from noaslong.mirrors import Mirror
 from noaslong.openness import is_open
-from noaslong.parts import Part
 from noaslong.rows import Rows
 from noaslong.ties import Ties
 
 METHODS = ("__init__", "yard", "hear", "askers", "heard", "is_open_to", "back", "box", "__len__")
 NAMES = ("ann", "bob", "zz", "abcdefgh", "x")
-
-
-def yards():
-    """Yards of four things of each sort, and layered ones."""
-    return one_of_each() + [Mirror(one_of_each()[1]), Part(Rows([5, 3, 6, 1, 5]), away=[0]),
-                            Beside(Rows([5, 5]), Ties(2, [(0, 1), (0, 0)]))]
 
 
 def standing(hall):
@@ -79,7 +70,7 @@ class ByWords(unittest.TestCase):
 
     def test_who_asks_plays_no_part(self):
         dice = random.Random(73)
-        for yard in yards() + full_yards()[::4] + full_layers()[::3]:
+        for yard in yards_of_four() + full_yards()[::4] + full_layers()[::3]:
             for order in some_orders(len(yard), 1, 74)[:3]:
                 one, other, box = Hall(yard), Hall(yard), Box(yard)
                 for thing in order:
@@ -110,19 +101,19 @@ class Edges(unittest.TestCase):
         self.assertEqual(hall.box().answers(), [(1, False), (0, True), (2, True)])
 
     def test_of_which_nothing_was_asked(self):
-        for yard in yards() + without_things():
+        for yard in yards_of_four() + without_things():
             hall = Hall(yard)
             self.assertEqual((hall.askers(), len(hall)), ([], 0))
             self.assertTrue(hall.box() == Box(yard) and hall.yard() == yard)
 
     def test_told_again_is_an_ask_more(self):
-        for yard in yards():
+        for yard in yards_of_four():
             hall = hall_of(yard, [("ann", 2)] * 3 + [("bob", 2)])
             self.assertEqual((len(hall), len(hall.box()), hall.askers()), (4, 1, ["ann", "bob"]))
             self.assertEqual(hall.heard("ann"), hall.heard("bob"))
 
     def test_each_heard_thing_stands_where_it_was_asked_first(self):
-        for yard in yards():
+        for yard in yards_of_four():
             hall = hall_of(yard, [("ann", 3), ("bob", 1), ("ann", 1), ("ann", 3), ("ann", 0), ("bob", 3)])
             self.assertEqual([thing for thing, truth in hall.heard("ann")], [3, 1, 0])
             self.assertEqual([thing for thing, truth in hall.heard("bob")], [1, 3])
@@ -132,6 +123,17 @@ class Edges(unittest.TestCase):
         for name in ("a", "z", "m", "abcdefgh", "zzzzzzzz"):
             hall = hall_of(Rows([5]), [(name, 0)])
             self.assertEqual((hall.askers(), hall.heard(name)), ([name], [(0, True)]))
+
+    def test_each_letter_alone_is_a_name_and_no_other_sign(self):
+        for number in range(32, 127):
+            hall = Hall(Rows([5]))
+            if "a" <= chr(number) <= "z":
+                self.assertIs(hall.hear(chr(number), 0), True)
+            else:
+                with self.assertRaises(KeyError):
+                    hall.hear(chr(number), 0)
+                with self.assertRaises(KeyError):
+                    hall.hear(f"a{chr(number)}b", 0)
 
     def test_where_nothing_has_to_be_in_it_is_open_to_none(self):
         hall = hall_of(Rows([0, 0]), [("ann", 1)])
@@ -146,28 +148,28 @@ class Edges(unittest.TestCase):
 
 class Back(Raised, unittest.TestCase):
     def test_who_asked_nothing_else_is_no_asker_any_more(self):
-        for yard in yards():
+        for yard in yards_of_four():
             hall = hall_of(yard, [("ann", 0), ("bob", 1)])
             self.assertEqual((hall.back(), hall.askers(), hall.box().asked()), (("bob", 1), ["ann"], [0]))
             self.raised("NoSuch", hall.heard, "bob", who="bob")
             self.raised("NoSuch", hall.is_open_to, "bob", who="bob")
 
     def test_a_thing_that_another_one_had_asked_ahead_stays_asked(self):
-        for yard in yards():
+        for yard in yards_of_four():
             hall = hall_of(yard, [("ann", 0), ("bob", 1), ("bob", 0)])
             said = hall.box().answers()
             self.assertEqual((hall.back(), hall.box().answers()), (("bob", 0), said))
             self.assertEqual((hall.heard("bob"), hall.heard("ann")), (said[1:], said[:1]))
 
     def test_what_the_same_one_had_asked_ahead_stays_heard(self):
-        for yard in yards():
+        for yard in yards_of_four():
             hall = hall_of(yard, [("ann", 0), ("ann", 1), ("ann", 0)])
             heard = hall.heard("ann")
             self.assertEqual((hall.back(), hall.heard("ann"), len(hall)), (("ann", 0), heard, 2))
             self.assertEqual((hall.back(), hall.heard("ann")), (("ann", 1), heard[:1]))
 
     def test_an_asker_who_comes_again_comes_last(self):
-        for yard in yards():
+        for yard in yards_of_four():
             hall = hall_of(yard, [("ann", 0)])
             hall.back()
             hall.hear("bob", 0)
@@ -181,7 +183,7 @@ class Back(Raised, unittest.TestCase):
         self.assertEqual((hall.hear("bob", 1), hall.hear("ann", 0)), (False, True))
 
     def test_where_there_is_none(self):
-        for yard in yards() + without_things():
+        for yard in yards_of_four() + without_things():
             hall = Hall(yard)
             self.raised("NotAsked", hall.back, who=None)
             self.assertEqual(standing(hall), ([], [], [], 0))
@@ -198,7 +200,7 @@ class Refused(Raised, unittest.TestCase):
             self.raised("NoYard", Hall, wrong, what="yard", who=None)
 
     def test_no_names(self):
-        for yard in yards():
+        for yard in yards_of_four():
             hall = hall_of(yard, [("ann", 2), ("bob", 0)])
             stood = standing(hall)
             for wrong in no_names():
@@ -217,7 +219,7 @@ class Refused(Raised, unittest.TestCase):
         self.assertEqual(hall.askers(), ["ann"])
 
     def test_no_things(self):
-        for yard in yards():
+        for yard in yards_of_four():
             hall = hall_of(yard, [("ann", 2)])
             stood = standing(hall)
             for wrong in no_things(4):
@@ -248,7 +250,7 @@ class Alone(unittest.TestCase):
         self.assertEqual((hall.heard(name="ann"), hall.is_open_to(name="ann")), ([(1, False), (0, True)], False))
 
     def test_the_box_is_a_copy(self):
-        for yard in yards():
+        for yard in yards_of_four():
             hall = hall_of(yard, [("ann", 2)])
             stood, box = standing(hall), hall.box()
             self.assertIs(type(box), Box)
@@ -262,7 +264,7 @@ class Alone(unittest.TestCase):
             self.assertEqual(box.asked(), [2])
 
     def test_told_lists_are_the_askers_own(self):
-        for yard in yards():
+        for yard in yards_of_four():
             hall = hall_of(yard, [("ann", 2), ("bob", 0), ("ann", 1)])
             stood = copy.deepcopy(standing(hall))
             for tell in (hall.askers, lambda: hall.heard("ann"), lambda: hall.heard("bob"), hall.yard().things):
@@ -272,7 +274,7 @@ class Alone(unittest.TestCase):
             self.assertEqual(standing(hall), stood)
 
     def test_two_halls_know_nothing_of_one_another(self):
-        for yard in yards():
+        for yard in yards_of_four():
             words = Words(yard)
             one, other = hall_of(yard, [("ann", 0)]), hall_of(yard, [("ann", 1), ("bob", 0)])
             one.hear("zz", 1)

@@ -6,30 +6,14 @@ import unittest
 from anything import no_texts
 from refusals import Raised
 from second import full_layers, full_yards, without_things
-from words import one_of_each, some_orders, some_words
-from noaslong.beside import Beside
+from words import asked, one_of_each, some_orders, some_words, yards_of_four
 from noaslong.boxes import Box
 from noaslong.eager import Eager
-from noaslong.lots import Lots
-from noaslong.mirrors import Mirror
-from noaslong.parts import Part
 from noaslong.rows import Rows
 from noaslong.texts import history, read_history
 from noaslong.ties import Ties
 
 KINDS = ((Box, False), (Eager, True))
-
-
-def asked(kind, yard, things):
-    box = kind(yard)
-    box.play(things)
-    return box
-
-
-def yards():
-    """Yards of four things of each sort, and layered ones."""
-    return one_of_each() + [Mirror(one_of_each()[0]), Part(Rows([5, 3, 6, 1, 5]), away=[0]),
-                            Beside(Rows([5, 5]), Lots([1], [0, 0]))]
 
 
 def spoilt_by(said, text):
@@ -49,13 +33,13 @@ def spoilt_by(said, text):
 class Written(unittest.TestCase):
     def test_ordinary_ones(self):
         yard = Ties(3, [(0, 1), (1, 2), (2, 0)])
-        self.assertEqual(history(asked(Box, yard, [1, 0, 2])), "1 no\n0 yes\n2 yes\n")
-        self.assertEqual(history(asked(Eager, yard, [1, 0, 2])), "1 yes\n0 yes\n2 no\n")
-        self.assertTrue(read_history(yard, "1 no\n0 yes\n") == asked(Box, yard, [1, 0]))
-        self.assertTrue(read_history(yard, "1 yes\n0 yes\n", eager=True) == asked(Eager, yard, [1, 0]))
+        self.assertEqual(history(asked(yard, [1, 0, 2])), "1 no\n0 yes\n2 yes\n")
+        self.assertEqual(history(asked(yard, [1, 0, 2], Eager)), "1 yes\n0 yes\n2 no\n")
+        self.assertTrue(read_history(yard, "1 no\n0 yes\n") == asked(yard, [1, 0]))
+        self.assertTrue(read_history(yard, "1 yes\n0 yes\n", eager=True) == asked(yard, [1, 0], Eager))
 
     def test_of_no_asks(self):
-        for yard in yards() + without_things():
+        for yard in yards_of_four() + without_things():
             for kind, eager in KINDS:
                 self.assertEqual(history(kind(yard)), "")
                 read = read_history(yard, "", eager=eager)
@@ -68,7 +52,7 @@ class Written(unittest.TestCase):
                 said = words.eager_answers if eager else words.answers
                 for order in some_orders(len(words.things), 2, 111):
                     for end in range(len(order) + 1):
-                        box = asked(kind, words.yard, order[:end])
+                        box = asked(words.yard, order[:end], kind)
                         text = history(box)
                         expected = [f"{thing} {'yes' if truth else 'no'}\n" for thing, truth in said(order[:end])]
                         self.assertEqual(text, "".join(expected))
@@ -81,20 +65,20 @@ class Written(unittest.TestCase):
         dice = random.Random(112)
         for kind, eager in KINDS:
             for yard in full_yards()[::3] + full_layers()[::2]:
-                box = asked(kind, yard, dice.sample(range(24), 24))
+                box = asked(yard, dice.sample(range(24), 24), kind)
                 self.assertTrue(read_history(yard, history(box), eager=eager) == box)
 
     def test_behind_back_and_asks_told_again(self):
         for kind, eager in KINDS:
-            for yard in yards():
-                box = asked(kind, yard, [3, 1, 3, 0])
+            for yard in yards_of_four():
+                box = asked(yard, [3, 1, 3, 0], kind)
                 box.back()
-                self.assertTrue(read_history(yard, history(box), eager=eager) == asked(kind, yard, [3, 1]))
+                self.assertTrue(read_history(yard, history(box), eager=eager) == asked(yard, [3, 1], kind))
 
     def test_a_read_box_goes_on_alone(self):
         for kind, eager in KINDS:
-            for yard in yards():
-                box = asked(kind, yard, [2, 0])
+            for yard in yards_of_four():
+                box = asked(yard, [2, 0], kind)
                 text = history(box)
                 one, other = read_history(yard, text, eager=eager), read_history(yard, text, eager=eager)
                 self.assertEqual(one.play([1, 3]), box.play([1, 3]))
@@ -103,9 +87,9 @@ class Written(unittest.TestCase):
 
     def test_by_names(self):
         yard = Rows([5, 5])
-        self.assertTrue(read_history(text="1 no\n", yard=yard) == asked(Box, yard, [1]))
-        self.assertTrue(read_history(text="1 no\n", yard=yard, eager=False) == asked(Box, yard, [1]))
-        self.assertEqual(history(box=asked(Box, yard, [1])), "1 no\n")
+        self.assertTrue(read_history(text="1 no\n", yard=yard) == asked(yard, [1]))
+        self.assertTrue(read_history(text="1 no\n", yard=yard, eager=False) == asked(yard, [1]))
+        self.assertEqual(history(box=asked(yard, [1])), "1 no\n")
         with self.assertRaises(TypeError):
             read_history(yard, "", True)
 
@@ -154,7 +138,7 @@ class Spoilt(Raised, unittest.TestCase):
         for words in [words for words in some_words() if len(words.things) == 4]:
             for kind, eager in KINDS:
                 said = words.eager_answers if eager else words.answers
-                text = history(asked(kind, words.yard, dice.sample(range(4), 4)))
+                text = history(asked(words.yard, dice.sample(range(4), 4), kind))
                 for turn in range(10):
                     rows = text.split("\n")
                     at = dice.randrange(len(rows))
@@ -173,7 +157,7 @@ class Spoilt(Raised, unittest.TestCase):
         for words in [words for words in some_words() if len(words.things) == 4][::6]:
             for kind, eager in KINDS:
                 said = words.eager_answers if eager else words.answers
-                text = history(asked(kind, words.yard, [2, 0, 3, 1]))
+                text = history(asked(words.yard, [2, 0, 3, 1], kind))
                 for at in range(len(text) + 1):
                     for spoilt in [text[:at]] + [text[:at] + sign + text[at:] for sign in " \n0n"]:
                         row = spoilt_by(said, spoilt)
@@ -184,8 +168,8 @@ class Spoilt(Raised, unittest.TestCase):
 
     def test_what_is_handed_in_stays(self):
         for kind, eager in KINDS:
-            for yard in yards():
-                shown, box = repr(yard), asked(kind, yard, [2, 0])
+            for yard in yards_of_four():
+                shown, box = repr(yard), asked(yard, [2, 0], kind)
                 before = box.copied()
                 history(box)
                 self.refused(yard, "2", 1, eager)

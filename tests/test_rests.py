@@ -5,7 +5,7 @@ import unittest
 
 from refusals import Raised
 from second import full_layers, full_yards, worths
-from words import one_of_each, some_orders, some_words
+from words import asked, one_of_each, some_orders, some_words
 from noaslong.beside import Beside
 from noaslong.boxes import Box
 from noaslong.eager import Eager
@@ -20,29 +20,23 @@ from noaslong.ties import Ties
 KINDS = (Box, Eager)
 
 
-def asked(kind, yard, things):
-    box = kind(yard)
-    box.play(things)
-    return box
-
-
 class Rests(unittest.TestCase):
     def test_ordinary_ones(self):
         yard = Ties(3, [(0, 1), (1, 2), (2, 0), (1, 1)])
-        rest = rest_of(asked(Box, yard, [1, 0]))
+        rest = rest_of(asked(yard, [1, 0]))
         self.assertTrue(rest == Part(yard, away=[1], granted=[0]))
         self.assertEqual((rest.things(), worths(rest)), ([0, 1], [0, 1, 0, 1]))
-        rest = rest_of(asked(Eager, yard, [1, 0]))
+        rest = rest_of(asked(yard, [1, 0], Eager))
         self.assertTrue(rest == Part(yard, granted=[0, 1]))
         self.assertEqual(worths(rest), [0, 0, 0, 0])
-        self.assertEqual(repr(rest_of(asked(Box, Rows([5, 3]), [1]))), "Part(Rows([5, 3]), away=[], granted=[1])")
+        self.assertEqual(repr(rest_of(asked(Rows([5, 3]), [1]))), "Part(Rows([5, 3]), away=[], granted=[1])")
 
     def test_no_is_given_away_and_yes_is_granted(self):
         for kind in KINDS:
             for words in [words for words in some_words() if words.yard.depth() < 4]:
                 for order in some_orders(len(words.things), 1, 41):
                     for end in range(len(order) + 1):
-                        box = asked(kind, words.yard, order[:end])
+                        box = asked(words.yard, order[:end], kind)
                         rest = rest_of(box)
                         self.assertIs(type(rest), Part)
                         self.assertTrue(rest.of() == words.yard)
@@ -56,7 +50,7 @@ class Rests(unittest.TestCase):
             for yard in [yard for yard in yards if yard.depth() < 4]:
                 for order in some_orders(len(yard), 1, 43)[:4]:
                     end = dice.randrange(len(order) + 1)
-                    box = asked(kind, yard, order[:end])
+                    box = asked(yard, order[:end], kind)
                     rest = rest_of(box)
                     going_on = kind(rest)
                     for thing in order[end:]:
@@ -66,7 +60,7 @@ class Rests(unittest.TestCase):
         dice = random.Random(44)
         for kind in KINDS:
             for words in [words for words in some_words() if words.things and words.yard.depth() < 4]:
-                box = asked(kind, words.yard, sorted(words.things)[:1])
+                box = asked(words.yard, sorted(words.things)[:1], kind)
                 rest = rest_of(box)
                 going_on = kind(rest)
                 for step in range(12):
@@ -81,7 +75,7 @@ class Rests(unittest.TestCase):
         for kind in KINDS:
             for yard in one_of_each() + [Mirror(Rows([5, 0])), Beside(Rows([5]), Lots([1], [0])), Seats(0, [])]:
                 self.assertTrue(rest_of(kind(yard)) == Part(yard))
-                box = asked(kind, yard, yard.things())
+                box = asked(yard, yard.things(), kind)
                 rest = rest_of(box)
                 self.assertEqual((rest.many(), rest.whole(), rest.away(), rest.granted()),
                                  (0, 0, box.no(), box.yes()))
@@ -89,7 +83,7 @@ class Rests(unittest.TestCase):
     def test_the_box_stays_and_later_asks_have_no_bearing(self):
         for kind in KINDS:
             for yard in one_of_each():
-                box = asked(kind, yard, [2, 0])
+                box = asked(yard, [2, 0], kind)
                 before, rest = box.copied(), rest_of(box)
                 self.assertTrue(box == before)
                 shown, told = repr(rest), worths(rest)
@@ -123,7 +117,7 @@ class Deep(Raised, unittest.TestCase):
         deep = Mirror(Mirror(Mirror(Mirror(Rows([5, 3])))))
         for kind in KINDS:
             for things in ([], [0], [1, 0]):
-                self.raised("NoYard", rest_of, asked(kind, deep, things), what="deep", who=None)
+                self.raised("NoYard", rest_of, asked(deep, things, kind), what="deep", who=None)
             self.assertEqual(rest_of(kind(deep.of())).many(), 2)
 
 

@@ -174,6 +174,14 @@ class Spoilt(Raised, unittest.TestCase):
                 else:
                     self.refused(text, row)
 
+    def test_each_sign_alone(self):
+        for sign in [chr(number) for number in range(32, 127) if chr(number) != "%"]:
+            if sign.isdigit():
+                self.assertTrue(read_yard(f"rows\n{sign}\n") == Rows([int(sign)]))
+            else:
+                self.refused(f"rows\n{sign}\n", 2)
+                self.refused(f"rows\n1{sign}2\n", 2)
+
     def test_very_many_figures(self):
         self.refused("rows\n" + "9" * 5000 + "\n", 2)
         self.refused("ties " + "1" * 5000 + "\n", 1)

@@ -134,9 +134,9 @@ def some_orders(many, count, seed):
     return [list(range(many)), list(range(many))[::-1]] + [dice.sample(range(many), many) for at in range(count)]
 
 
-def asked(yard, order):
-    """A box of the yard, asked in this order."""
-    box = Box(yard)
+def asked(yard, order, kind=Box):
+    """A box of the yard, of this kind, asked in this order."""
+    box = kind(yard)
     box.play(order)
     return box
 
@@ -145,3 +145,10 @@ def one_of_each():
     """A yard of each sort, of four things, an idle one (the last) and two alike ones (the first) among them."""
     return [Ties(3, [(0, 1), (1, 0), (1, 2), (2, 2)]), Rows([5, 5, 3, 0]), Lots([1, 2, 0], [0, 0, 1, 2]),
             Seats(2, [[1], [1], [0, 1], []])]
+
+
+def yards_of_four():
+    """Yards of four things, of each sort, mirrors, a part and two side by side."""
+    rows = Rows([5, 7, 5, 3, 0, 6])
+    return one_of_each() + [Mirror(one_of_each()[0]), Mirror(Mirror(one_of_each()[3])),
+                            Part(rows, away=[1], granted=[3]), Beside(Rows([5, 5]), Ties(2, [(0, 1), (1, 1)]))]
